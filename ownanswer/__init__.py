@@ -1,0 +1,1 @@
+"""Ownanswer: server, client and kept copies of the published web protocol."""

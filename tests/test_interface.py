@@ -1,0 +1,122 @@
+"""The names, arguments and places of the interface, and [0.2] for its records."""
+
+import ast
+import importlib
+import inspect
+import unittest
+from pathlib import Path
+
+PACKAGE = Path(__file__).resolve().parent.parent / "ownanswer"
+
+FUNCTIONS = {
+    "octets": {"to_octets": "text", "to_text": "octets", "is_token": "text", "is_token_sign": "octet", "is_value_sign": "octet",
+               "lower": "text", "hex_digit": "octet", "values": "fields name", "without": "fields names", "joined": "events"},
+    "lengths": {"body_rule": "head method", "is_last": "head minor method", "waits": "head minor"},
+    "chunks": {"write_chunks": "body sizes trailers"},
+    "writer": {"write_request": "request sizes", "write_response": "response method sizes"},
+    "line": {"flow": "line sizes most"},
+    "tokens": {"read_quoted": "text", "write_quoted": "text", "split_list": "value", "join_values": "fields name",
+               "read_params": "element", "read_weight": "text"},
+    "dates": {"write_date": "time", "read_date": "text now"},
+    "targets": {"decode": "octets", "encode": "octets kept", "clean_path": "path", "read_target": "method target",
+                "read_host": "value", "read_query": "query", "write_query": "pairs"},
+}
+CLASSES = {
+    "errors": {"WrongUse": {"__init__": "word"}, "HeadFault": {"__init__": "word at"}},
+    "startlines": {"LineReader": {"__init__": "side", "take": "octet"}},
+    "heads": {"FieldsReader": {"__init__": "place minor status", "take": "octet"}},
+    "chunks": {"ChunkReader": {"__init__": "", "take": "octet"}},
+    "reader": {"Reader": {"__init__": "side", "expect": "method", "take": "piece", "finish": "", "octets_read": ""}},
+    "client1": {"Client1": {"__init__": "", "ask": "request", "give": "most", "take": "piece", "answers": "", "shut": "",
+                            "is_over": ""}},
+    "server1": {"Server1": {"__init__": "", "take": "piece", "asked": "", "answer": "number response", "give": "most",
+                            "shut": "", "is_over": ""}},
+    "line": {"Line": {"__init__": "client server", "carry": "size", "carried": ""}},
+}
+PROPERTIES = (("reader", "Reader", "octets_read"), ("line", "Line", "carried"))
+
+
+def tree_of(name):
+    return ast.parse((PACKAGE / f"{name}.py").read_text())
+
+
+def arguments(node):
+    return [argument.arg for argument in node.args.args]
+
+
+class InterfaceTest(unittest.TestCase):
+    def test_functions(self):
+        for name, functions in FUNCTIONS.items():
+            defined = {node.name: node for node in tree_of(name).body if isinstance(node, ast.FunctionDef)}
+            module = importlib.import_module(f"ownanswer.{name}")
+            for function, parameters in functions.items():
+                self.assertEqual(arguments(defined[function]), parameters.split(), function)
+                self.assertTrue(inspect.isfunction(getattr(module, function)))
+
+    def test_classes(self):
+        for name, classes in CLASSES.items():
+            defined = {node.name: node for node in tree_of(name).body if isinstance(node, ast.ClassDef)}
+            for kind, methods in classes.items():
+                own = {node.name: node for node in defined[kind].body if isinstance(node, ast.FunctionDef)}
+                for method, parameters in methods.items():
+                    self.assertEqual(arguments(own[method]), ["self"] + parameters.split(), (kind, method))
+
+    def test_properties(self):
+        for name, kind, word in PROPERTIES:
+            found = getattr(importlib.import_module(f"ownanswer.{name}"), kind)
+            self.assertIsInstance(found.__dict__[word], property)
+
+    def test_errors(self):
+        errors = importlib.import_module("ownanswer.errors")
+        self.assertEqual(errors.WrongUse.__bases__, (ValueError,))
+        self.assertEqual(errors.HeadFault.__bases__, (ValueError,))
+
+
+class RecordsTest(unittest.TestCase):
+    """[0.2]: records are tuples through and through."""
+
+    def is_made_of_tuples(self, record):
+        if isinstance(record, tuple):
+            return all(self.is_made_of_tuples(part) for part in record)
+        return isinstance(record, (int, str, bool)) or record is None
+
+    def test_events(self):
+        reader = importlib.import_module("ownanswer.reader").Reader("ask")
+        text = "PUT / HTTP/1.1\r\nhost: h\r\nexpect: 100-continue\r\nconnection: close\r\ntransfer-encoding: chunked\r\n\r\n"
+        events = reader.take([*text.encode()] + [*b"1\r\na\r\n0\r\nt: v\r\n\r\nx"])
+        self.assertIsInstance(events, list)
+        self.assertEqual([event[0] for event in events], ["head", "waits", "last", "body", "end", "fault"])
+        for event in events:
+            self.assertTrue(self.is_made_of_tuples(event), event)
+
+    def test_requests_and_responses(self):
+        client = importlib.import_module("ownanswer.client1").Client1()
+        server = importlib.import_module("ownanswer.server1").Server1()
+        client.ask(("PUT", (47,), (("host", "h"),), (1, 2), ()))
+        piece = client.give(1000)
+        self.assertTrue(self.is_made_of_tuples(piece))
+        server.take(list(piece))
+        told = server.asked()
+        server.answer(0, (200, (), (3,), ()))
+        client.take(list(server.give(1000)))
+        found = client.answers()
+        for row in (told, found):
+            self.assertIsInstance(row, list)
+            self.assertTrue(self.is_made_of_tuples(row[0]), row)
+
+    def test_what_functions_return(self):
+        tokens = importlib.import_module("ownanswer.tokens")
+        targets = importlib.import_module("ownanswer.targets")
+        writer = importlib.import_module("ownanswer.writer")
+        for record in (
+            tokens.read_params("a;b=c"), targets.read_target("GET", (47, 63, 97)), targets.read_target("GET", [47, 63, 97]),
+            targets.read_target("CONNECT", (97, 58, 49)), targets.read_host("h"), targets.decode([37, 52, 49]),
+            targets.encode([0], []), targets.clean_path((47, 46)), targets.read_query((97,))[0], targets.write_query([((), ())]),
+            writer.write_request(("GET", (47,), (), (), ()), (1,)), writer.write_response((200, (), (), ()), "GET", None),
+        ):
+            self.assertIsInstance(record, tuple)
+            self.assertTrue(self.is_made_of_tuples(record), record)
+
+
+if __name__ == "__main__":
+    unittest.main()

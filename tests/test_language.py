@@ -1,0 +1,179 @@
+"""The files of the package keep the rules of the language subset, as far as a short look can tell."""
+
+import ast
+import builtins
+import io
+import re
+import tokenize
+import unittest
+from pathlib import Path
+
+PACKAGE = Path(__file__).resolve().parent.parent / "ownanswer"
+FILES = sorted(PACKAGE.glob("*.py"))
+
+BUILTINS = set(
+    "len range enumerate zip min max sum abs sorted reversed int str bool list tuple dict set isinstance ord repr any all divmod "
+    "ValueError property".split())
+METHODS = set(
+    "append clear copy count endswith extend find get index insert isalnum isalpha isdigit islower isspace isupper items join keys "
+    "ljust lower lstrip partition pop remove replace reverse rfind rjust rpartition rsplit rstrip setdefault split splitlines "
+    "startswith strip update upper values zfill bit_length".split())
+BARRED_NAMES = set(
+    "register mro elements open input law version_info with_traceback add_note attrgetter breakpoint builtins compile copyright "
+    "delattr dir eval exec exit gc getattr globals hasattr help id importlib license locals methodcaller os quit setattr super "
+    "type vars sys __name__ format".split())
+BARRED_WORDS = re.compile(
+    r"\b(typing|typing_extensions|enum|Enum|IntEnum|StrEnum|Flag|IntFlag|Generic|Protocol|ABC|ABCMeta|namedtuple|NamedTuple|"
+    r"TypedDict|TYPE_CHECKING|abstractmethod)\b|dataclass|overload|contextmanager|_wall")
+BARRED_NODES = (
+    ast.Lambda, ast.Global, ast.AsyncFunctionDef, ast.Await, ast.Yield, ast.YieldFrom, ast.Set, ast.SetComp, ast.GeneratorExp,
+    ast.AnnAssign, ast.With, ast.Try, ast.Match, ast.NamedExpr, ast.Import, ast.Starred, ast.Div, ast.Nonlocal)
+PLAIN = (ast.Constant, ast.Tuple, ast.Dict, ast.Load)
+
+
+class LanguageTest(unittest.TestCase):
+    def each(self):
+        for path in FILES:
+            text = path.read_text()
+            yield path.name, text, ast.parse(text)
+
+    def test_the_package_is_one_folder(self):
+        others = [path.name for path in PACKAGE.iterdir() if path.suffix != ".py" and path.name != "__pycache__"]
+        self.assertEqual(others, [])
+        self.assertIn(PACKAGE / "__init__.py", FILES)
+        for path in FILES:
+            self.assertRegex(path.stem, "^[a-z0-9_]+$")
+
+    def test_sizes_and_characters(self):
+        for name, text, tree in self.each():
+            rows = text.split("\n")
+            self.assertLessEqual(len(rows), 399, name)
+            for row in rows:
+                self.assertLessEqual(len(row), 120, (name, row))
+                self.assertRegex(row, "^[ -~]*$", name)
+            for node in ast.walk(tree):
+                if isinstance(node, ast.FunctionDef):
+                    self.assertLessEqual(node.end_lineno - node.lineno + 1, 40, (name, node.name))
+
+    def test_strings(self):
+        kinds = {tokenize.STRING, getattr(tokenize, "FSTRING_MIDDLE", tokenize.STRING)}
+        for name, text, _ in self.each():
+            for token in tokenize.generate_tokens(io.StringIO(text).readline):
+                if token.type in kinds:
+                    self.assertNotIn("%", token.string, (name, token.start))
+                    self.assertNotRegex(token.string.replace("\\\\", ""), r"\\[^nt\"']", (name, token.start))
+                    self.assertNotRegex(token.string, r"\._{1,2}[\"']$", (name, token.start))
+
+    def test_words_that_are_not_used(self):
+        for name, text, _ in self.each():
+            self.assertNotRegex(text, BARRED_WORDS, name)
+
+    def test_module_level(self):
+        for name, _, tree in self.each():
+            bound = []
+            for at, node in enumerate(tree.body):
+                if isinstance(node, ast.Expr):
+                    self.assertTrue(at == 0 and isinstance(node.value.value, str), name)
+                elif isinstance(node, ast.ImportFrom):
+                    bound += [alias.name for alias in node.names]
+                elif isinstance(node, (ast.FunctionDef, ast.ClassDef)):
+                    bound.append(node.name)
+                else:
+                    self.assertIsInstance(node, ast.Assign, name)
+                    bound.append(node.targets[0].id)
+                    for part in ast.walk(node.value):
+                        self.assertIsInstance(part, PLAIN, (name, node.lineno))
+            self.assertEqual(len(bound), len(set(bound)), name)
+
+    def test_nodes(self):
+        for name, _, tree in self.each():
+            for node in ast.walk(tree):
+                self.assertNotIsInstance(node, BARRED_NODES, (name, getattr(node, "lineno", 0)))
+                if isinstance(node, ast.FunctionDef):
+                    decorators = [decorator.id for decorator in node.decorator_list]
+                    self.assertIn(decorators, ([], ["property"]), (name, node.name))
+                    self.assertEqual(node.args.defaults, [])
+                    self.assertIsNone(node.returns)
+                if isinstance(node, ast.Compare):
+                    for sign, other in zip(node.ops, node.comparators):
+                        if isinstance(sign, (ast.Is, ast.IsNot)):
+                            self.assertIsInstance(other, ast.Constant, (name, node.lineno))
+                if isinstance(node, ast.Constant):
+                    self.assertNotIsInstance(node.value, (float, bytes, complex))
+
+    def test_imports(self):
+        defined = {}
+        graph = {}
+        for name, _, tree in self.each():
+            module = "ownanswer." + name[:-3]
+            defined[module] = {node.name for node in tree.body if isinstance(node, (ast.FunctionDef, ast.ClassDef))}
+            defined[module] |= {node.targets[0].id for node in tree.body if isinstance(node, ast.Assign)}
+            graph[module] = [node for node in ast.walk(tree) if isinstance(node, ast.ImportFrom)]
+        for module, nodes in graph.items():
+            for node in nodes:
+                self.assertEqual(node.level, 0)
+                for alias in node.names:
+                    self.assertIsNone(alias.asname)
+                    self.assertIn(alias.name, defined[node.module], module)
+        left = {module: {node.module for node in nodes} for module, nodes in graph.items()}
+        while left:
+            free = [module for module, wanted in left.items() if not wanted & set(left)]
+            self.assertTrue(free, "files import from each other")
+            for module in free:
+                del left[module]
+
+    def test_imported_names_and_private_names_are_used(self):
+        for name, _, tree in self.each():
+            read = {node.id for node in ast.walk(tree) if isinstance(node, ast.Name) and isinstance(node.ctx, ast.Load)}
+            read |= {node.attr for node in ast.walk(tree) if isinstance(node, ast.Attribute) and isinstance(node.ctx, ast.Load)}
+            for node in ast.walk(tree):
+                if isinstance(node, ast.ImportFrom):
+                    for alias in node.names:
+                        self.assertIn(alias.name, read, name)
+                if isinstance(node, ast.FunctionDef) and node.name.startswith("_") and not node.name.startswith("__"):
+                    self.assertIn(node.name, read, name)
+
+    def test_names(self):
+        standard = {word for word in dir(builtins)}
+        for name, _, tree in self.each():
+            top = {node.name for node in tree.body if isinstance(node, ast.ClassDef)}
+            top |= {alias.name for node in tree.body if isinstance(node, ast.ImportFrom) for alias in node.names}
+            for node in ast.walk(tree):
+                bound = []
+                if isinstance(node, ast.arg):
+                    bound.append(node.arg)
+                if isinstance(node, ast.Name) and isinstance(node.ctx, ast.Store):
+                    bound.append(node.id)
+                for word in bound:
+                    self.assertNotIn(word, top, (name, node.lineno))
+                if isinstance(node, (ast.FunctionDef, ast.ClassDef)):
+                    bound.append(node.name)
+                for word in bound:
+                    self.assertNotIn(word, standard | BARRED_NAMES, (name, node.lineno))
+                    self.assertRegex(word, "^(_|_?[A-Za-z][A-Za-z0-9_]*|__init__)$")
+                if isinstance(node, ast.Attribute):
+                    self.assertNotIn(node.attr, BARRED_NAMES | {"args"}, (name, node.lineno))
+
+    def test_calls(self):
+        own = {node.name for _, _, tree in self.each() for node in ast.walk(tree) if isinstance(node, (ast.FunctionDef, ast.ClassDef))}
+        for name, _, tree in self.each():
+            for node in ast.walk(tree):
+                if isinstance(node, ast.Call) and isinstance(node.func, ast.Name):
+                    self.assertIn(node.func.id, own | BUILTINS, (name, node.lineno))
+                if isinstance(node, ast.Call) and isinstance(node.func, ast.Attribute):
+                    self.assertIn(node.func.attr, own | METHODS | {"__init__"}, (name, node.lineno))
+                if isinstance(node, ast.Name) and node.id in dir(builtins):
+                    self.assertIn(node.id, BUILTINS, (name, node.lineno))
+
+    def test_methods_and_attributes_differ(self):
+        for name, _, tree in self.each():
+            for kind in [node for node in ast.walk(tree) if isinstance(node, ast.ClassDef)]:
+                methods = [node.name for node in kind.body if isinstance(node, ast.FunctionDef)]
+                self.assertEqual(len(methods), len(set(methods)), (name, kind.name))
+                stored = {node.attr for node in ast.walk(kind)
+                          if isinstance(node, ast.Attribute) and isinstance(node.ctx, ast.Store)}
+                self.assertEqual(stored & set(methods), set(), (name, kind.name))
+
+
+if __name__ == "__main__":
+    unittest.main()

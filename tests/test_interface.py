@@ -20,6 +20,14 @@ FUNCTIONS = {
     "dates": {"write_date": "time", "read_date": "text now"},
     "targets": {"decode": "octets", "encode": "octets kept", "clean_path": "path", "read_target": "method target",
                 "read_host": "value", "read_query": "query", "write_query": "pairs"},
+    "ranges": {"read_ranges": "value size", "joined_ranges": "ranges", "write_content_range": "first last size",
+               "read_content_range": "value"},
+    "tags": {"read_tag": "text", "write_tag": "tag", "read_tags": "value", "strong_match": "a b", "weak_match": "a b"},
+    "conditions": {"judge": "method fields tag modified now"},
+    "choice": {"read_choices": "value", "choose": "fields offers"},
+    "pages": {"is_page": "page", "find_variant": "variants offer", "page_fields": "page variant"},
+    "prefixints": {"write_int": "n value first", "read_int": "octets at n"},
+    "codes": {"word_of": "octet", "coded": "octets", "decoded": "octets", "coded_length": "octets"},
 }
 CLASSES = {
     "errors": {"WrongUse": {"__init__": "word"}, "HeadFault": {"__init__": "word at"}},
@@ -32,6 +40,7 @@ CLASSES = {
     "server1": {"Server1": {"__init__": "", "take": "piece", "asked": "", "answer": "number response", "give": "most",
                             "shut": "", "is_over": ""}},
     "line": {"Line": {"__init__": "client server", "carry": "size", "carried": ""}},
+    "house": {"House": {"__init__": "pages", "answer": "request now", "pages": "", "changes": ""}},
 }
 PROPERTIES = (("reader", "Reader", "octets_read"), ("line", "Line", "carried"))
 
@@ -116,6 +125,27 @@ class RecordsTest(unittest.TestCase):
         ):
             self.assertIsInstance(record, tuple)
             self.assertTrue(self.is_made_of_tuples(record), record)
+
+    def test_what_the_house_returns(self):
+        house = importlib.import_module("ownanswer.house").House([((47,), 0, (("a/b", "de", (1, 2, 3), "x", 0), ("a/b", "", (), "y", 0)))])
+        host = ("host", "h")
+        for method, fields in (("GET", ()), ("GET", (("range", "bytes=0-0"),)), ("GET", (("range", "bytes=0-0,2-2"),)), ("TRACE", ()),
+                               ("GET", (("if-none-match", "*"),)), ("GET", (("range", "bytes=9-"),)), ("HEAD", ()), ("OPTIONS", ()),
+                               ("PUT", (("content-type", "a/b"),)), ("POST", ()), ("GET", (("accept", "x/y"),)), ("DELETE", ())):
+            response = house.answer((method, (47,), (host,) + fields, (), ()), 0)
+            self.assertIsInstance(response, tuple)
+            self.assertEqual(len(response), 4)
+            self.assertTrue(self.is_made_of_tuples(response), response)
+            self.assertTrue(self.is_made_of_tuples(house.pages()), response)
+
+    def test_rows_of_records(self):
+        ranges = importlib.import_module("ownanswer.ranges")
+        tags = importlib.import_module("ownanswer.tags")
+        choice = importlib.import_module("ownanswer.choice")
+        for row in (ranges.read_ranges("bytes=0-1,5-", 9), ranges.joined_ranges(((3, 4), (0, 1))), tags.read_tags('"a",W/"b"'),
+                    choice.read_choices("a;b=c;q=0.5,d")):
+            self.assertIsInstance(row, list)
+            self.assertTrue(self.is_made_of_tuples(tuple(row)), row)
 
 
 if __name__ == "__main__":

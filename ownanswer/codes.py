@@ -69,8 +69,8 @@ def _first_word(held, count):
     return None
 
 
-def decoded(octets):
-    """The octets whose words these are."""
+def decoded_or_none(octets):
+    """The octets whose words these are, or None."""
     found = []
     held = 0
     count = 0
@@ -80,11 +80,17 @@ def decoded(octets):
         word = _first_word(held, count)
         while word is not None:
             if word[0] == END:
-                raise HeadFault("code", 0)
+                return None
             found.append(word[0])
             count -= word[1]
             held = held & ((1 << count) - 1)
             word = _first_word(held, count)
-    if count >= 8 or held != (1 << count) - 1:
+    return None if count >= 8 or held != (1 << count) - 1 else tuple(found)
+
+
+def decoded(octets):
+    """The octets whose words these are."""
+    found = decoded_or_none(octets)
+    if found is None:
         raise HeadFault("code", 0)
-    return tuple(found)
+    return found

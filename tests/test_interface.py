@@ -28,6 +28,8 @@ FUNCTIONS = {
     "pages": {"is_page": "page", "find_variant": "variants offer", "page_fields": "page variant"},
     "prefixints": {"write_int": "n value first", "read_int": "octets at n"},
     "codes": {"word_of": "octet", "coded": "octets", "decoded": "octets", "coded_length": "octets"},
+    "statictable": {"fixed_row": "number"},
+    "frames": {"frame_octets": "frame", "code_of": "word"},
 }
 CLASSES = {
     "errors": {"WrongUse": {"__init__": "word"}, "HeadFault": {"__init__": "word at"}},
@@ -41,6 +43,12 @@ CLASSES = {
                             "shut": "", "is_over": ""}},
     "line": {"Line": {"__init__": "client server", "carry": "size", "carried": ""}},
     "house": {"House": {"__init__": "pages", "answer": "request now", "pages": "", "changes": ""}},
+    "movingtable": {"MovingTable": {"__init__": "room", "add": "name value", "resize": "room", "row": "number", "find": "name value",
+                                    "rows": "", "room": "", "size": ""}},
+    "packer": {"Packer": {"__init__": "limit", "pack": "pairs", "set_room": "room", "set_limit": "limit", "table": ""}},
+    "unpacker": {"Unpacker": {"__init__": "limit", "unpack": "octets", "set_limit": "limit", "table": ""}},
+    "framereader": {"FrameReader": {"__init__": "", "take": "piece", "each": "piece", "set_most": "most"}},
+    "settings": {"Settings": {"__init__": "", "value": "word", "change": "pairs", "pairs": ""}},
 }
 PROPERTIES = (("reader", "Reader", "octets_read"), ("line", "Line", "carried"))
 
@@ -69,6 +77,20 @@ class InterfaceTest(unittest.TestCase):
                 own = {node.name: node for node in defined[kind].body if isinstance(node, ast.FunctionDef)}
                 for method, parameters in methods.items():
                     self.assertEqual(arguments(own[method]), ["self"] + parameters.split(), (kind, method))
+
+    def test_names_behind_a_star(self):
+        pack = importlib.import_module("ownanswer.packer").Packer.pack
+        choices = inspect.signature(pack).parameters["choices"]
+        self.assertEqual((choices.kind, choices.default), (inspect.Parameter.KEYWORD_ONLY, ()))
+
+    def test_values(self):
+        self.assertIsInstance(importlib.import_module("ownanswer.statictable").FIXED, tuple)
+        self.assertIsInstance(importlib.import_module("ownanswer.frames").CODES, dict)
+
+    def test_generators(self):
+        reader = importlib.import_module("ownanswer.framereader").FrameReader
+        self.assertTrue(inspect.isgeneratorfunction(reader.each))
+        self.assertIsInstance(reader().take(()), list)
 
     def test_properties(self):
         for name, kind, word in PROPERTIES:
@@ -137,6 +159,20 @@ class RecordsTest(unittest.TestCase):
             self.assertEqual(len(response), 4)
             self.assertTrue(self.is_made_of_tuples(response), response)
             self.assertTrue(self.is_made_of_tuples(house.pages()), response)
+
+    def test_head_tables_and_frames(self):
+        packer = importlib.import_module("ownanswer.packer").Packer(4096)
+        unpacker = importlib.import_module("ownanswer.unpacker").Unpacker(4096)
+        reader = importlib.import_module("ownanswer.framereader").FrameReader()
+        block = packer.pack([((97,), (98,)), ((97,), (99,))])
+        pairs = unpacker.unpack(list(block))
+        events = reader.take([0, 0, 6, 4, 0, 0, 0, 0, 0, 0, 1, 0, 0, 0, 9] + [0, 0, 6, 1, 37, 0, 0, 0, 1, 0, 0, 0, 3, 1, 7])
+        for row in (pairs, unpacker.table().rows(), packer.table().rows(), events):
+            self.assertIsInstance(row, list)
+            self.assertEqual(len(row), 2)
+            self.assertTrue(self.is_made_of_tuples(tuple(row)), row)
+        for record in (block, unpacker.table().row(1), unpacker.table().row(24), unpacker.table().find((97,), ())):
+            self.assertTrue(self.is_made_of_tuples(record), record)
 
     def test_rows_of_records(self):
         ranges = importlib.import_module("ownanswer.ranges")

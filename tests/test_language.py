@@ -26,7 +26,7 @@ BARRED_WORDS = re.compile(
     r"\b(typing|typing_extensions|enum|Enum|IntEnum|StrEnum|Flag|IntFlag|Generic|Protocol|ABC|ABCMeta|namedtuple|NamedTuple|"
     r"TypedDict|TYPE_CHECKING|abstractmethod)\b|dataclass|overload|contextmanager|_wall")
 BARRED_NODES = (
-    ast.Lambda, ast.Global, ast.AsyncFunctionDef, ast.Await, ast.Yield, ast.YieldFrom, ast.Set, ast.SetComp, ast.GeneratorExp,
+    ast.Lambda, ast.Global, ast.AsyncFunctionDef, ast.Await, ast.YieldFrom, ast.Set, ast.SetComp, ast.GeneratorExp,
     ast.AnnAssign, ast.With, ast.Try, ast.Match, ast.NamedExpr, ast.Import, ast.Starred, ast.Div, ast.Nonlocal)
 PLAIN = (ast.Constant, ast.Tuple, ast.Dict, ast.Load)
 
@@ -71,6 +71,7 @@ class LanguageTest(unittest.TestCase):
     def test_module_level(self):
         for name, _, tree in self.each():
             bound = []
+            functions = []
             for at, node in enumerate(tree.body):
                 if isinstance(node, ast.Expr):
                     self.assertTrue(at == 0 and isinstance(node.value.value, str), name)
@@ -78,11 +79,14 @@ class LanguageTest(unittest.TestCase):
                     bound += [alias.name for alias in node.names]
                 elif isinstance(node, (ast.FunctionDef, ast.ClassDef)):
                     bound.append(node.name)
+                    functions += [node.name] if isinstance(node, ast.FunctionDef) else []
                 else:
                     self.assertIsInstance(node, ast.Assign, name)
                     bound.append(node.targets[0].id)
                     for part in ast.walk(node.value):
-                        self.assertIsInstance(part, PLAIN, (name, node.lineno))
+                        # A table may hold functions that are defined above it.
+                        if not isinstance(part, ast.Name) or part.id not in functions:
+                            self.assertIsInstance(part, PLAIN, (name, node.lineno))
             self.assertEqual(len(bound), len(set(bound)), name)
 
     def test_nodes(self):
@@ -100,6 +104,26 @@ class LanguageTest(unittest.TestCase):
                             self.assertIsInstance(other, ast.Constant, (name, node.lineno))
                 if isinstance(node, ast.Constant):
                     self.assertNotIsInstance(node.value, (float, bytes, complex))
+
+    def test_generators(self):
+        generators = {}
+        for name, _, tree in self.each():
+            for node in ast.walk(tree):
+                if isinstance(node, ast.FunctionDef) and any(isinstance(part, ast.Yield) for part in ast.walk(node)):
+                    self.assertNotIn(node.name, METHODS | set(generators), name)
+                    self.assertFalse(node.name.startswith("__"), name)
+                    generators[node.name] = node
+                    rows = [part for part in ast.walk(node) if isinstance(part, ast.Expr) and isinstance(part.value, ast.Yield)]
+                    self.assertEqual(len(rows), len([part for part in ast.walk(node) if isinstance(part, ast.Yield)]), name)
+        for name, _, tree in self.each():
+            nodes = list(ast.walk(tree))
+            at_once = [node.iter for node in nodes if isinstance(node, ast.For)]
+            at_once += [node.args[0] for node in nodes if isinstance(node, ast.Call) and getattr(node.func, "id", "") == "list"]
+            for node in nodes:
+                if isinstance(node, ast.FunctionDef) and node.name in generators:
+                    self.assertEqual(ast.dump(node), ast.dump(generators[node.name]), name)
+                if isinstance(node, ast.Attribute) and node.attr in generators:
+                    self.assertTrue(any(isinstance(call, ast.Call) and call.func is node for call in at_once), (name, node.lineno))
 
     def test_imports(self):
         defined = {}
@@ -157,9 +181,12 @@ class LanguageTest(unittest.TestCase):
     def test_calls(self):
         own = {node.name for _, _, tree in self.each() for node in ast.walk(tree) if isinstance(node, (ast.FunctionDef, ast.ClassDef))}
         for name, _, tree in self.each():
+            # A function of a table is given a name of its own before it is called.
+            tabled = {node.targets[0].id for node in ast.walk(tree) if isinstance(node, ast.Assign) and isinstance(node.value, ast.Subscript)
+                      and isinstance(node.value.value, ast.Name) and node.value.value.id.isupper() and isinstance(node.targets[0], ast.Name)}
             for node in ast.walk(tree):
                 if isinstance(node, ast.Call) and isinstance(node.func, ast.Name):
-                    self.assertIn(node.func.id, own | BUILTINS, (name, node.lineno))
+                    self.assertIn(node.func.id, own | BUILTINS | tabled, (name, node.lineno))
                 if isinstance(node, ast.Call) and isinstance(node.func, ast.Attribute):
                     self.assertIn(node.func.attr, own | METHODS | {"__init__"}, (name, node.lineno))
                 if isinstance(node, ast.Name) and node.id in dir(builtins):

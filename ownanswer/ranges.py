@@ -17,10 +17,8 @@ def _number(text):
 def _read_last(digits, size):
     """The pair (first, last) of the last octets, so many as the digits say, or None."""
     many = _number(digits)
-    if many is None:
-        return None
     # The last 0 octets begin where the body ends.
-    return (max(size - many, 0) if many > 0 else size, size - 1)
+    return None if many is None else (max(size - many, 0), size - 1)
 
 
 def _read_range(element, size):
@@ -68,15 +66,15 @@ def read_content_range(value):
     """(first, last, size), or (None, None, size), or None."""
     if not value.startswith(PART_UNIT):
         return None
-    place, slash, whole = value[len(PART_UNIT):].partition("/")
+    place, _, whole = value[len(PART_UNIT):].partition("/")
     size = _number(whole)
-    if slash == "" or size is None:
+    if size is None:
         return None
     if place == "*":
         return (None, None, size)
-    left, minus, right = place.partition("-")
+    left, _, right = place.partition("-")
     first = _number(left)
     last = _number(right)
-    if minus == "" or first is None or last is None:
+    if first is None or last is None:
         return None
     return (first, last, size) if first <= last < size else None

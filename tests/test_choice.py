@@ -51,7 +51,7 @@ class KindTest(unittest.TestCase):
         for accept, wanted in (
             ("text/html", 1), ("TEXT/HTML", 1), ("text/html;q=0.1", 1), ("text/html, text/plain", 0), ("text/html, text/plain;q=0.9", 1),
             ("text/html;q=0.9, text/plain", 0), ("text/html;q=0", -1), ("data/x;q=0.5, text/html;q=0.501", 1), ("data/y", -1), ("", -1),
-            ("text", -1), ("html", -1), ("*", -1), ("*/html", -1), ("text/html/x", -1), ("text/htm", -1),
+            ("text", -1), ("html", -1), (";q=0.5", -1), ("*", -1), ("*/html", -1), ("text/html/x", -1), ("text/htm", -1),
         ):
             self.assertEqual(chosen([PLAIN, PAGE, DATA], accept), wanted, accept)
 
@@ -87,7 +87,7 @@ class LanguageTest(unittest.TestCase):
             ("en", 0), ("en-us", 1), ("EN-US", 1), ("de", 2), ("en-us-x", 3), ("e", -1), ("en-u", -1), ("en-us-", -1), ("fr", -1), ("", -1),
             ("*", 0), ("de;q=0.5, *;q=0.1", 2), ("en;q=0.1, *", 2), ("en;q=0.1, en-us", 1), ("en, en-us;q=0.1, de;q=0.9", 0),
             ("en;q=0, *;q=0.5", 2), ("en;q=0.2, en-us;q=0.1, en-us-x;q=0.3", 3), ("en;q=0, en-us;q=0.5, de;q=0.4", 1), ("*;q=0", -1),
-            ("en-us;q=0.5, *;q=0.1, en;q=0", 1), ("de, de;q=0", 2), ("de;q=0, de", -1),
+            ("en-us;q=0.5, *;q=0.1, en;q=0", 1), ("de, de;q=0", 2), ("de;q=0, de", -1), (";q=0.5", -1), (";q=0.5, de;q=0.1", 2), ("-", -1), ("en;x=y", -1), ("en;x=y, *;q=0.1", 0),
         ):
             self.assertEqual(chosen(offers, None, language), wanted, language)
 

@@ -50,7 +50,7 @@ PING = ("ping", False, (1,) * 8)
 FRAMES = (
     ("data", 1, True, (1, 2, 3), None), ("data", MOST_STREAM, False, (), 0), ("data", 3, False, (9,), 255),
     ("head", 1, True, True, None, (), None), ("head", 1, False, True, (True, 0, 256), (1, 2), 7), ("head", 3, True, True, (False, 1, 1), (), None),
-    ("part", 1, (True, MOST_STREAM, 16)), ("reset", 7, 2 ** 32 - 1), ("settings", False, ((1, 2), (65535, 2 ** 32 - 1))), ("settings", True, ()),
+    ("part", 1, (True, MOST_STREAM, 16)), ("part", 1, (False, MOST_STREAM, 256)), ("reset", 7, 2 ** 32 - 1), ("settings", False, ((1, 2), (65535, 2 ** 32 - 1))), ("settings", True, ()),
     ("settings", False, ()), ("promise", 1, True, 2, (4,), None), ("promise", 1, True, 0, (), 3), ("ping", True, (0,) * 8), PING,
     ("away", 0, 0, ()), ("away", MOST_STREAM, 2 ** 32 - 1, (1, 2, 3)), ("window", 0, 1), ("window", MOST_STREAM, MOST_STREAM),
     OPEN_HEAD, MORE, MORE, LAST_MORE, OPEN_PROMISE, LAST_MORE, ("other", 10, 0, 0, ()), ("other", 255, 255, MOST_STREAM, (1, 2, 3)),
@@ -128,6 +128,10 @@ class FaultsTest(unittest.TestCase):
         for size in (1, 5, 6, 12):
             self.is_fault("size", raw(4, 1, 0, (0,) * size), when=9)
         self.assertEqual(told([raw(4, 0, 0, (0,) * 12)]), [("frame", ("settings", False, ((0, 0), (0, 0))))])
+
+    def test_most_at_first(self):
+        self.assertEqual(FrameReader().take(raw(0, 0, 1, (1,) * 16384)), [("frame", ("data", 1, False, (1,) * 16384, None))])
+        self.assertEqual(FrameReader().take(raw(0, 0, 1, (), size=16385)), [("fault", "size", 0)])
 
     def test_most(self):
         for sort in (0, 1, 5, 10, 255):

@@ -106,22 +106,21 @@ class LanguageTest(unittest.TestCase):
                     self.assertNotIsInstance(node.value, (float, bytes, complex))
 
     def test_generators(self):
-        generators = {}
+        generators = set()
+        plain = set()
         for name, _, tree in self.each():
-            for node in ast.walk(tree):
-                if isinstance(node, ast.FunctionDef) and any(isinstance(part, ast.Yield) for part in ast.walk(node)):
-                    self.assertNotIn(node.name, METHODS | set(generators), name)
-                    self.assertFalse(node.name.startswith("__"), name)
-                    generators[node.name] = node
-                    rows = [part for part in ast.walk(node) if isinstance(part, ast.Expr) and isinstance(part.value, ast.Yield)]
-                    self.assertEqual(len(rows), len([part for part in ast.walk(node) if isinstance(part, ast.Yield)]), name)
+            for node in [node for node in ast.walk(tree) if isinstance(node, ast.FunctionDef)]:
+                yields = [part for part in ast.walk(node) if isinstance(part, ast.Yield)]
+                rows = [part for part in ast.walk(node) if isinstance(part, ast.Expr) and isinstance(part.value, ast.Yield)]
+                self.assertEqual(len(rows), len(yields), (name, node.name))
+                (generators if yields else plain).add(node.name)
+        self.assertEqual(generators & (plain | METHODS), set())
+        self.assertFalse([word for word in generators if word.startswith("__")])
         for name, _, tree in self.each():
             nodes = list(ast.walk(tree))
             at_once = [node.iter for node in nodes if isinstance(node, ast.For)]
             at_once += [node.args[0] for node in nodes if isinstance(node, ast.Call) and getattr(node.func, "id", "") == "list"]
             for node in nodes:
-                if isinstance(node, ast.FunctionDef) and node.name in generators:
-                    self.assertEqual(ast.dump(node), ast.dump(generators[node.name]), name)
                 if isinstance(node, ast.Attribute) and node.attr in generators:
                     self.assertTrue(any(isinstance(call, ast.Call) and call.func is node for call in at_once), (name, node.lineno))
 

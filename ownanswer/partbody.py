@@ -41,7 +41,7 @@ def free_mark(body):
 def _part(kind, body, first, last):
     """The octets of one range with its fields, behind its mark."""
     place = write_content_range(first, last, len(body))
-    fields = to_octets(f"content-type: {kind}") + LINE_END + to_octets(f"content-range: {place}") + LINE_END
+    fields = to_octets("content-type: " + kind) + LINE_END + to_octets("content-range: " + place) + LINE_END
     return LINE_END + fields + LINE_END + body[first:last + 1] + LINE_END
 
 

@@ -64,10 +64,13 @@ class Unpacker:
         at = 0
         count = 0
         while at < len(block) and _is_room(block[at]):
-            room, behind = read_int(block, at, 5)
-            count += 1
-            if room > self._limit or count > MOST_ROOMS:
+            # Of one room too many the first octet is wrong, whatever stands behind it.
+            if count == MOST_ROOMS:
                 raise HeadFault("room", at)
+            room, behind = read_int(block, at, 5)
+            if room > self._limit:
+                raise HeadFault("room", at)
+            count += 1
             self._table.resize(room)
             at = behind
         return at
@@ -82,7 +85,6 @@ class Unpacker:
     def _read_pair(self, block, at):
         """(pair, index behind) of a part with a string; the pair is added if the part says so."""
         if _is_room(block[at]):
-            read_int(block, at, 5)
             raise HeadFault("room", at)
         added = block[at] >= 64
         number, behind = read_int(block, at, 6 if added else 4)

@@ -41,9 +41,11 @@ class SecondUnpacker:
             if bits.startswith("1"):
                 found.append(self.row(self.number(7), at))
             elif bits.startswith("001"):
-                room = self.number(5)
                 self.rooms += 1
-                if found or self.rooms > 2 or room > self.limit:
+                if found or self.rooms > 2:
+                    raise Fault("room", at)
+                room = self.number(5)
+                if room > self.limit:
                     raise Fault("room", at)
                 self.room = room
                 self.drop()

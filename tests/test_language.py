@@ -31,6 +31,25 @@ BARRED_NODES = (
 PLAIN = (ast.Constant, ast.Tuple, ast.Dict, ast.Load)
 
 
+def annotation_places(tree):
+    """Where the strings in annotations stand."""
+    notes = [node.annotation for node in ast.walk(tree) if isinstance(node, (ast.AnnAssign, ast.arg))]
+    notes += [node.returns for node in ast.walk(tree) if isinstance(node, ast.FunctionDef)]
+    return {(part.lineno, part.col_offset) for note in notes if note is not None for part in ast.walk(note) if isinstance(part, ast.Constant)}
+
+
+def words_outside_of_plain_strings(text):
+    """The rows where the word `type` stands outside of comments and of strings that are no annotation, no bytes and no f-string."""
+    found = []
+    annotated = annotation_places(ast.parse(text))
+    plain = re.compile("^[uUrR]*[\"']")
+    for token in tokenize.generate_tokens(io.StringIO(text).readline):
+        is_plain = token.type == tokenize.STRING and plain.match(token.string) and token.start not in annotated
+        if token.type != tokenize.COMMENT and not is_plain and re.search(r"\btype\b", token.string):
+            found.append(token.start[0])
+    return found
+
+
 class LanguageTest(unittest.TestCase):
     def each(self):
         for path in FILES:
@@ -63,6 +82,19 @@ class LanguageTest(unittest.TestCase):
                     self.assertNotIn("%", token.string, (name, token.start))
                     self.assertNotRegex(token.string.replace("\\\\", ""), r"\\[^nt\"']", (name, token.start))
                     self.assertNotRegex(token.string, r"\._{1,2}[\"']$", (name, token.start))
+
+    def test_the_word_that_plain_strings_alone_have(self):
+        for name, text, _ in self.each():
+            self.assertEqual(words_outside_of_plain_strings(text), [], name)
+
+    def test_how_this_word_is_found(self):
+        for text, rows in (
+            ('x = "content-type"\n', []), ("# a type\nx = 'type'\n", []), ('"""A type."""\nx = ("the type",)\n', []), ("types = 1\n", []),
+            ('x = f"content-type: {kind}"\n', [1]), ("\nx = f'type'\n", [2]), ('x = F"{kind} type"\n', [1]), ('x = f"{k}" "type"\n', []),
+            ('x = "a" f"type {k}"\n', [1]), ("type = 1\n", [1]), ("x = box.type\n", [1]), ('x = b"type"\n', [1]), ("x = f\"{type}\"\n", [1]),
+            ('x: "type" = 1\n', [1]), ('def f(a: "type"):\n    pass\n', [1]), ("def f(type):\n    pass\n", [1]),
+        ):
+            self.assertEqual(words_outside_of_plain_strings(text), rows, text)
 
     def test_words_that_are_not_used(self):
         for name, text, _ in self.each():

@@ -118,6 +118,16 @@ class RoomsTest(unittest.TestCase):
             ((41, 63, 226, 31), ("room", 1)), ((63, 225, 31, 63, 226, 31), ("room", 3)),
         ):
             self.assertEqual(one(block), wanted, block)
+        # A room that may not stand there is one at its first octet: its number is not read.
+        for block, at in (
+            ((32, 33, 63), 2), ((32, 33, 63, 255, 255, 255, 255, 255, 1), 2), ((32, 33, 34), 2), ((63, 137, 0, 63, 225, 31, 63, 187), 6),
+            ((129, 63), 1), ((129, 63, 187), 1), ((129, 63, 255, 255, 255, 255, 255, 1), 1), ((0, 0, 0, 63), 3), ((41, 64, 0, 0, 63, 255), 4),
+            ((16, 0, 0, 63, 128), 3), ((41, 41, 63, 226, 31), 2),
+        ):
+            self.assertEqual(one(block), ("room", at), block)
+        self.assertEqual(one((63,)), ("short", 1))
+        self.assertEqual(one((33, 63, 187)), ("short", 3))
+        self.assertEqual(one((33, 63, 255, 255, 255, 255, 255)), ("number", 1))
         self.assertEqual(one((41,), limit=8), ("room", 0))
         self.assertEqual(one((40,), limit=8), [])
 
@@ -176,7 +186,7 @@ class FaultsTest(unittest.TestCase):
     def test_short(self):
         whole = (64 + 63, 200, 1)
         for block in ((64,), (0,), (16,), (255,), (255, 128), (63,), whole[:1], whole[:2], (64, 2), (64, 2, 65), (64, 2, 65, 65), (64, 0), (0, 0), (0, 0, 1),
-                      (0, 0, 129), (64, 127), (64, 127, 128), (65,), (65, 3, 1, 1), (0, 127, 200, 9), (129, 63), (129, 64, 1), (0, 0, 255, 128, 128)):
+                      (0, 0, 129), (64, 127), (64, 127, 128), (65,), (65, 3, 1, 1), (0, 127, 200, 9), (41, 63), (41, 41, 64), (129, 64, 1), (0, 0, 255, 128, 128)):
             self.assertEqual(one(block), ("short", len(block)), block)
         self.assertEqual(one((0, 0, 255) + (255, 255, 255, 7) + (1,) * 9), ("short", 16))
 

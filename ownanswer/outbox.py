@@ -11,6 +11,10 @@ class Outbox:
     def put(self, octets):
         self._octets.extend(octets)
 
+    def size(self):
+        """How many octets wait."""
+        return len(self._octets) - self._given
+
     def give(self, most):
         """Takes away and returns the first octets, at most so many."""
         piece = tuple(self._octets[self._given:self._given + most])

@@ -30,6 +30,8 @@ FUNCTIONS = {
     "codes": {"word_of": "octet", "coded": "octets", "decoded": "octets", "coded_length": "octets"},
     "statictable": {"fixed_row": "number"},
     "frames": {"frame_octets": "frame", "code_of": "word"},
+    "streamstates": {"after": "state mine deed"},
+    "heads2": {"ask_pairs": "head", "reply_pairs": "head", "trailer_pairs": "fields", "read_head": "side pairs", "read_trailers": "pairs"},
 }
 CLASSES = {
     "errors": {"WrongUse": {"__init__": "word"}, "HeadFault": {"__init__": "word at"}},
@@ -49,6 +51,13 @@ CLASSES = {
     "unpacker": {"Unpacker": {"__init__": "limit", "unpack": "octets", "set_limit": "limit", "table": ""}},
     "framereader": {"FrameReader": {"__init__": "", "take": "piece", "each": "piece", "set_most": "most"}},
     "settings": {"Settings": {"__init__": "", "value": "word", "change": "pairs", "pairs": ""}},
+    "windows": {"Window": {"__init__": "size", "use": "count", "grow": "amount", "shift": "amount", "size": "", "room": ""}},
+    "turns": {"Turns": {"__init__": "", "add": "stream weight", "remove": "stream", "set_weight": "stream weight", "choose": "ready", "mark": "stream",
+                        "known": "", "clock": ""}},
+    "link2": {"Link": {"__init__": "side", "start": "pairs last", "head": "stream pairs last", "body": "stream octets last", "reset": "stream word",
+                       "take": "piece", "each": "piece", "give": "most", "events": "", "shut": "", "is_over": "", "change": "pairs"}},
+    "client2": {"Client2": {"__init__": "", "ask": "request", "give": "most", "take": "piece", "answers": "", "shut": "", "is_over": ""}},
+    "server2": {"Server2": {"__init__": "", "take": "piece", "asked": "", "answer": "number response", "give": "most", "shut": "", "is_over": ""}},
 }
 PROPERTIES = (("reader", "Reader", "octets_read"), ("line", "Line", "carried"))
 
@@ -86,11 +95,17 @@ class InterfaceTest(unittest.TestCase):
     def test_values(self):
         self.assertIsInstance(importlib.import_module("ownanswer.statictable").FIXED, tuple)
         self.assertIsInstance(importlib.import_module("ownanswer.frames").CODES, dict)
+        states = importlib.import_module("ownanswer.streamstates")
+        self.assertIsInstance(states.STATES, tuple)
+        self.assertIsInstance(states.DEEDS, tuple)
 
     def test_generators(self):
         reader = importlib.import_module("ownanswer.framereader").FrameReader
         self.assertTrue(inspect.isgeneratorfunction(reader.each))
         self.assertIsInstance(reader().take(()), list)
+        link = importlib.import_module("ownanswer.link2").Link
+        self.assertTrue(inspect.isgeneratorfunction(link.each))
+        self.assertIsNone(link("client").take(()))
 
     def test_properties(self):
         for name, kind, word in PROPERTIES:
@@ -173,6 +188,28 @@ class RecordsTest(unittest.TestCase):
             self.assertTrue(self.is_made_of_tuples(tuple(row)), row)
         for record in (block, unpacker.table().row(1), unpacker.table().row(24), unpacker.table().find((97,), ())):
             self.assertTrue(self.is_made_of_tuples(record), record)
+
+    def test_version_two(self):
+        client = importlib.import_module("ownanswer.client2").Client2()
+        server = importlib.import_module("ownanswer.server2").Server2()
+        fields = (("host", "h"), ("a", "b"))
+        client.ask(("PUT", (47,), fields, (1, 2), (("t", "v"),)))
+        piece = client.give(1000)
+        self.assertTrue(self.is_made_of_tuples(piece))
+        server.take(list(piece))
+        told = server.asked()
+        self.assertEqual(told, [(0, ("PUT", (47,), fields, (1, 2), (("t", "v"),)))])
+        server.answer(0, (200, (), (3,), ()))
+        client.take(list(server.give(1000)))
+        found = client.answers()
+        self.assertEqual(found, [(0, (200, (), (3,), ()))])
+        for row in (told, found):
+            self.assertIsInstance(row, list)
+            self.assertTrue(self.is_made_of_tuples(row[0]), row)
+        heads2 = importlib.import_module("ownanswer.heads2")
+        for row in (heads2.ask_pairs(("ask", "GET", [47], fields)), heads2.reply_pairs(("reply", 200, fields)), heads2.trailer_pairs(fields)):
+            self.assertIsInstance(row, list)
+            self.assertTrue(self.is_made_of_tuples(tuple(row)), row)
 
     def test_rows_of_records(self):
         ranges = importlib.import_module("ownanswer.ranges")

@@ -27,7 +27,7 @@ BARRED_WORDS = re.compile(
     r"TypedDict|TYPE_CHECKING|abstractmethod)\b|dataclass|overload|contextmanager|_wall")
 BARRED_NODES = (
     ast.Lambda, ast.Global, ast.AsyncFunctionDef, ast.Await, ast.YieldFrom, ast.Set, ast.SetComp, ast.GeneratorExp,
-    ast.AnnAssign, ast.With, ast.Try, ast.Match, ast.NamedExpr, ast.Import, ast.Starred, ast.Div, ast.Nonlocal)
+    ast.AnnAssign, ast.With, ast.TryStar, ast.Match, ast.NamedExpr, ast.Import, ast.Starred, ast.Div, ast.Nonlocal)
 PLAIN = (ast.Constant, ast.Tuple, ast.Dict, ast.Load)
 
 
@@ -134,6 +134,10 @@ class LanguageTest(unittest.TestCase):
                     for sign, other in zip(node.ops, node.comparators):
                         if isinstance(sign, (ast.Is, ast.IsNot)):
                             self.assertIsInstance(other, ast.Constant, (name, node.lineno))
+                if isinstance(node, ast.Try):
+                    # Errors of the package alone are caught.
+                    self.assertEqual([handler.type.id for handler in node.handlers], ["HeadFault"], (name, node.lineno))
+                    self.assertEqual(node.finalbody, [])
                 if isinstance(node, ast.Constant):
                     self.assertNotIsInstance(node.value, (float, bytes, complex))
 

@@ -1,16 +1,11 @@
 """Messages of version two, gathered from the events of their streams."""
 
 from ownanswer.heads2 import read_head, read_trailers
-from ownanswer.lengths import is_interim
+from ownanswer.lengths import has_bare_status, is_interim
 from ownanswer.octets import is_digits, values
 
 MOST_BODY = 99999
 MALFORMED = ("malformed",)
-
-
-def has_bare_status(status):
-    """True if a response with this status has no body, whatever its fields say."""
-    return status == 204 or status == 304
 
 
 def _is_length(value, size):

@@ -7,6 +7,11 @@ def is_interim(head):
     return head[0] == "reply" and head[1] < 200
 
 
+def has_bare_status(status):
+    """True if no response with this status has a body, whatever its fields say."""
+    return status == 204 or status == 304
+
+
 def has_close(fields):
     """True if `close` is a member of a field connection."""
     for value in values(fields, "connection"):
@@ -18,7 +23,7 @@ def has_close(fields):
 def body_rule(head, method):
     """("none",), ("sized", n), ("chunked",) or ("open",)."""
     fields = head[-1]
-    if head[0] == "reply" and (method == "HEAD" or is_interim(head) or head[1] == 204 or head[1] == 304):
+    if head[0] == "reply" and (method == "HEAD" or is_interim(head) or has_bare_status(head[1])):
         return ("none",)
     if len(values(fields, "transfer-encoding")) > 0:
         return ("chunked",)

@@ -1,8 +1,9 @@
 """The server's end of a line of version two."""
 
 from ownanswer.errors import WrongUse
-from ownanswer.gathering2 import MALFORMED, Gathering2, has_bare_status
+from ownanswer.gathering2 import MALFORMED, Gathering2
 from ownanswer.heads2 import reply_pairs, trailer_pairs
+from ownanswer.lengths import has_bare_status
 from ownanswer.link2 import Link
 
 

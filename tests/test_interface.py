@@ -30,6 +30,12 @@ FUNCTIONS = {
     "codes": {"word_of": "octet", "coded": "octets", "decoded": "octets", "coded_length": "octets"},
     "statictable": {"fixed_row": "number"},
     "frames": {"frame_octets": "frame", "code_of": "word"},
+    "directives": {"read_directives": "fields", "directive": "directives name", "seconds": "value"},
+    "freshness": {"lifetime": "response came", "age_when_come": "response asked came", "age": "entry now", "is_fresh": "entry now"},
+    "keys": {"vary_names": "response", "fits": "entry request"},
+    "shelf": {"may_keep": "request response came", "freshened": "entry response asked came"},
+    "plain": {"plain_request": "request", "plain_response": "response method", "plain_run": "pages steps"},
+    "journey": {"ends": "version"},
     "streamstates": {"after": "state mine deed"},
     "heads2": {"ask_pairs": "head", "reply_pairs": "head", "trailer_pairs": "fields", "read_head": "side pairs", "read_trailers": "pairs"},
 }
@@ -51,6 +57,12 @@ CLASSES = {
     "unpacker": {"Unpacker": {"__init__": "limit", "unpack": "octets", "set_limit": "limit", "table": ""}},
     "framereader": {"FrameReader": {"__init__": "", "take": "piece", "each": "piece", "set_most": "most"}},
     "settings": {"Settings": {"__init__": "", "value": "word", "change": "pairs", "pairs": ""}},
+    "shelf": {"Shelf": {"__init__": "room", "put": "entry", "find": "request", "drop": "target", "entries": ""}},
+    "keeper": {"Keeper": {"__init__": "origin room", "ask": "request now", "entries": ""},
+               "Told": {"__init__": "responses", "answer": "request now", "asked": ""}},
+    "journey": {"Journey": {"__init__": "version house sizes", "ask": "request", "carry": "", "waiting": "", "serve": "k now", "settle": "now", "order": "",
+                            "heard": "", "answers": "", "is_over": ""}},
+    "far": {"Far": {"__init__": "version house sizes", "answer": "request now", "journeys": ""}},
     "windows": {"Window": {"__init__": "size", "use": "count", "grow": "amount", "shift": "amount", "size": "", "room": ""}},
     "turns": {"Turns": {"__init__": "", "add": "stream weight", "remove": "stream", "set_weight": "stream weight", "choose": "ready", "mark": "stream",
                         "known": "", "clock": ""}},
@@ -209,6 +221,29 @@ class RecordsTest(unittest.TestCase):
         heads2 = importlib.import_module("ownanswer.heads2")
         for row in (heads2.ask_pairs(("ask", "GET", [47], fields)), heads2.reply_pairs(("reply", 200, fields)), heads2.trailer_pairs(fields)):
             self.assertIsInstance(row, list)
+            self.assertTrue(self.is_made_of_tuples(tuple(row)), row)
+
+    def test_kept_copies_and_journeys(self):
+        keeper = importlib.import_module("ownanswer.keeper")
+        far = importlib.import_module("ownanswer.far").Far
+        journey = importlib.import_module("ownanswer.journey").Journey
+        house = importlib.import_module("ownanswer.house").House([((47,), 5, (("a/b", "", (1, 2, 3), "x", 0),))])
+        request = ("GET", (47,), (("host", "h"), ("te", "x")), (), ())
+        ahead = keeper.Keeper(far(2, house, [9]), 5)
+        for now, how in ((0, "fetched"), (1, "kept"), (9, "checked")):
+            found = ahead.ask(request, now)
+            self.assertEqual(found[1], how)
+            self.assertTrue(self.is_made_of_tuples(found), found)
+        self.assertIsInstance(ahead.entries(), list)
+        self.assertTrue(self.is_made_of_tuples(tuple(ahead.entries())))
+        told = keeper.Told([(200, (), (), ())])
+        told.answer(request, 3)
+        one = journey(1, house, [4])
+        one.ask(request)
+        one.settle(0)
+        for row in (told.asked(), one.heard(), one.answers()):
+            self.assertIsInstance(row, list)
+            self.assertEqual(len(row), 1)
             self.assertTrue(self.is_made_of_tuples(tuple(row)), row)
 
     def test_rows_of_records(self):

@@ -241,7 +241,8 @@ class Link:
         """The state behind a head list or octets of the other end; last says that they ended the stream."""
         if last:
             self._events.append(("end", number))
-        self._table.find(number).state = state
+        stream = self._table.find(number)
+        stream.state = state
         if state == "closed":
             self._table.close(number, False)
 

@@ -134,6 +134,8 @@ class LanguageTest(unittest.TestCase):
                     for sign, other in zip(node.ops, node.comparators):
                         if isinstance(sign, (ast.Is, ast.IsNot)):
                             self.assertIsInstance(other, ast.Constant, (name, node.lineno))
+                if isinstance(node, ast.Attribute) and not isinstance(node.ctx, ast.Load):
+                    self.assertIsInstance(node.value, ast.Name, (name, node.lineno))
                 if isinstance(node, ast.Try):
                     # Errors of the package alone are caught.
                     self.assertEqual([handler.type.id for handler in node.handlers], ["HeadFault"], (name, node.lineno))

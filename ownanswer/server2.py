@@ -54,7 +54,6 @@ class Server2:
     def shut(self):
         """No more octets come; a request that is not complete is left out."""
         self._link.shut()
-        self._deal_with_events()
 
     def is_over(self):
         return self._link.is_over()

@@ -110,9 +110,9 @@ class StreamTable:
         for number in numbers:
             stream = self._streams[number]
             if stream.state == "idle":
-                if may_begin and stream.is_ready(room):
+                # It has a head list to begin with. No other one begins ahead of the least one that waits.
+                if may_begin:
                     ready.append(number)
-                # No other one begins ahead of the least one that waits.
                 may_begin = False
             elif stream.is_ready(room):
                 ready.append(number)

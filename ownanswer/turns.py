@@ -10,8 +10,6 @@ class Turns:
         self._clock = 0
         self._strides = {}
         self._marks = {}
-        # The streams of the tuple of the last call of choose.
-        self._before = {}
 
     def add(self, stream, weight):
         self._marks[stream] = self._clock
@@ -28,10 +26,8 @@ class Turns:
     def choose(self, ready):
         """The stream that has its turn among these ascending ones."""
         for stream in ready:
-            # Who did not wait must not be ahead of those who did.
-            if stream not in self._before and self._marks[stream] < self._clock:
-                self._marks[stream] = self._clock
-        self._before = {stream: True for stream in ready}
+            # Only a stream that was not ready in the call before can be behind the clock.
+            self._marks[stream] = max(self._marks[stream], self._clock)
         chosen = ready[0]
         for stream in ready:
             if self._marks[stream] < self._marks[chosen]:

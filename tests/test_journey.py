@@ -167,6 +167,14 @@ class JourneyTest(unittest.TestCase):
         self.assertEqual(len(journey.answers()), 4)
         self.assertEqual(calls, 7)
 
+    def test_a_call_that_moves_nothing_and_serves(self):
+        journey = Journey(1, House(PAGES), (10 ** 6,))
+        journey.ask(ask())
+        journey.carry()
+        # Nothing back, and served; nothing there; the answer back; two calls with nothing.
+        self.assertEqual(journey.settle(0), 5)
+        self.assertEqual(len(journey.answers()), 1)
+
     def test_lists_are_new(self):
         journey = Journey(2, House(PAGES), (100,))
         journey.ask(ask())

@@ -312,7 +312,7 @@ class FetchedTest(unittest.TestCase):
 
     def test_a_304_for_such_a_request(self):
         for old, new, matches in (('"x"', '"x"', True), ('"x"', '"y"', False), ('W/"x"', '"x"', False), ('"x"', 'W/"x"', False), ('W/"x"', 'W/"x"', False),
-                                  ('"x"', "x", False), ('"x"', None, False), ("x", "x", False)):
+                                  ('"x"', "x", False), ('"x"', None, False), ("x", "x", False), ("x", '"x"', False)):
             fields = () if new is None else (("etag", new),)
             answered = answer(*fields, ("n", "1"), status=304, body="")
             keeper, origin = kept(AGED, ("etag", old), more=(answered,))
@@ -320,6 +320,13 @@ class FetchedTest(unittest.TestCase):
             self.assertEqual(keeper.ask(ask(("if-none-match", '"x"')), 1060), (answered, "fetched"))
             fresh = [(octets("/a"), (HOST,), answer(AGED, ("etag", new), ("n", "1")), 1060, 1060)]
             self.assertEqual(keeper.entries(), fresh if matches else before, (old, new))
+
+    def test_another_answer_with_the_same_tag(self):
+        """It freshens nothing: only a 304 does."""
+        keeper, _ = kept(AGED, TAG, more=(answer(TAG, control("no-store"), body="new"),))
+        before = keeper.entries()
+        self.assertEqual(keeper.ask(ask(("if-none-match", '"z"')), 1060)[1], "fetched")
+        self.assertEqual(keeper.entries(), before)
 
     def test_tags_that_come_twice(self):
         keeper, _ = kept(AGED, TAG, more=(answer(TAG, TAG, status=304),))

@@ -365,8 +365,10 @@ class DataTest(unittest.TestCase):
         self.assertEqual(peer.frames(), [])
         peer.send(("window", 0, 7))
         self.assertEqual(self.sizes(peer.frames()), [7])
+        peer.send(("window", 0, 1))
+        self.assertEqual(self.sizes(peer.frames()), [1])
         peer.send(("window", 0, 80000))
-        self.assertEqual(sum(self.sizes(peer.frames())), 80000 - 65535 - 7)
+        self.assertEqual(sum(self.sizes(peer.frames())), 80000 - 65535 - 8)
 
     def test_what_needs_no_window(self):
         link, peer = new_client(opened=False)

@@ -203,13 +203,20 @@ class StreamTest(unittest.TestCase):
             self.goes_on(link, peer)
 
     def test_what_comes_for_closed_streams(self):
-        for how in ("ended", "reset"):
+        for how in ("ended", "ended by the other end", "reset"):
             for kind in ("data", "head"):
                 link, peer = self.half()
                 if how == "ended":
                     link.head(1, REPLY, True)
-                else:
+                elif how == "reset":
                     peer.send(("reset", 1, 0))
+                else:
+                    link, peer = new_server()
+                    peer.send_head(1, ASK)
+                    peer.send_head(3, ASK)
+                    link.head(1, REPLY, True)
+                    peer.frames()
+                    peer.send(data(1, "", True))
                 peer.frames()
                 link.events()
                 peer.send(("window", 1, 5), ("reset", 1, 0), ("part", 1, (False, 0, 3)))

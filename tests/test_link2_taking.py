@@ -96,6 +96,11 @@ class EventsTest(unittest.TestCase):
                 found.append(link.events())
         self.assertEqual(found, [[("reset", 1, "closed")]])
 
+    def test_each_stops_behind_a_wrong_opening(self):
+        link, peer = new_server(opened=False)
+        self.assertEqual([link.events() for _ in link.each(OPENING[:5] + (0,) * 50)], [[("fault", "opening")]])
+        self.assertEqual(list(link.each(OPENING)), [])
+
     def test_what_is_done_between_two_frames_counts_for_the_next_one(self):
         link, peer = new_server()
         row = row_of([peer.head(1, ASK), data(1, "x"), peer.head(3, ASK)])
@@ -326,6 +331,9 @@ class AwayTest(unittest.TestCase):
         self.assertEqual(link.events(), [("reset", 3, "refused"), ("reset", 5, "refused")])
         link.body(3, octets("x"), True)
         self.assertEqual(peer.frames(), [])
+        # They are closed by this end: what comes for them is left out.
+        peer.send(("window", 3, 5), ("reset", 5, 0), data(5, "x"))
+        self.assertEqual((peer.frames(), link.events(), link.is_over()), ([("window", 0, 1)], [], False))
 
     def test_streams_that_wait(self):
         link, peer = new_client(opened=False)
@@ -395,6 +403,13 @@ class ShutTest(unittest.TestCase):
         link.shut()
         link.start(ASK, True)
         self.assertEqual(link.events(), [("reset", 1, "lost")])
+
+    def test_nothing_is_taken_behind_it(self):
+        link, peer = new_server()
+        link.shut()
+        peer.send(("ping", False, (0,) * 8), SETTINGS)
+        peer.send_head(1, ASK)
+        self.assertEqual((peer.frames(), link.events()), ([], []))
 
     def test_what_was_put_out_is_still_given(self):
         link, peer = new_client()

@@ -108,7 +108,8 @@ def _ask_head(pairs, fields):
     path = tuple(firsts[":path"])
     if method is None or not is_token(method) or len(method) > MOST_METHOD or not _is_path(path):
         return None
-    if _read_value(firsts[":scheme"]) is None or authority is None:
+    # No field is made of the scheme, so the rule of values does not bind it.
+    if to_text(firsts[":scheme"]) is None or authority is None:
         return None
     if authority == "":
         return ("ask", method, path, fields)

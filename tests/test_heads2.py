@@ -106,10 +106,26 @@ class FirstPairsTest(unittest.TestCase):
             self.assertEqual(found, ("ask", method, octets("/"), ()) if right else None, method)
 
     def test_schemes(self):
-        for scheme, right in (("", True), ("https", True), ("any text", True), ("x" * 1000, True), ("x" * 1001, False), (" x", False),
-                              ("x\t", False), ("x%", False), ("x\x7f", False)):
-            found = read_head("ask", pairs(ASK[0], (":scheme", scheme), ASK[2]))
-            self.assertEqual(found is not None, right, scheme)
+        # Any text, without the rule of values: neither its ends nor its length count.
+        wanted = ("ask", "GET", octets("/"), ())
+        for scheme in ("", "http", "https", "any text", ":", "~", "\t", " ", " \t ", "\ta", " x", "x ", "x\t", "x" * 1000, "x" * 1001, " " * 5000):
+            self.assertEqual(read_head("ask", pairs((":scheme", scheme), ASK[0], ASK[2])), wanted, scheme)
+            self.assertEqual(read_head("ask", pairs(ASK[0], (":scheme", scheme), ASK[2], ("a", "b"))), (*wanted[:3], (("a", "b"),)), scheme)
+            self.assertIsNone(read_head("ask", pairs((":scheme", scheme), *ASK)), scheme)
+
+    def test_schemes_that_are_no_text(self):
+        texts = (9, *(octet for octet in range(32, 127) if octet != 37))
+        for octet in range(256):
+            for scheme in ((octet,), (97, octet), (octet, 97), (97,) * 1001 + (octet,)):
+                found = read_head("ask", [*pairs(ASK[0]), (octets(":scheme"), scheme), *pairs(ASK[2])])
+                self.assertEqual(found is not None, octet in texts, scheme)
+
+    def test_the_rule_of_values_holds_beside_any_scheme(self):
+        for value in (" h", "h\t", "h" * 1001):
+            rows = (ASK[0], (":scheme", " " + "x" * 1001), ASK[2])
+            self.assertIsNotNone(read_head("ask", pairs(*rows)))
+            self.assertIsNone(read_head("ask", pairs(*rows, (":authority", value))), value)
+            self.assertIsNone(read_head("ask", pairs(*rows, ("a", value))), value)
 
     def test_paths(self):
         for path, right in (("/", True), ("*", True), ("x", True), ("%", True), ("!~", True), ("", False), ("a b", False), ("\x7f", False), ("\x80", False),

@@ -167,6 +167,11 @@ class MalformedTest(unittest.TestCase):
                 self.assertEqual(self.found_at([("head", head_list, last)]), 0, head_list)
         self.assertIsNone(self.found_at([("head", ask_list(("te", "trailers"), ("x" * 40, "y" * 1000), method="X" * 20), True)]))
 
+    def test_schemes(self):
+        for scheme, right in (("\ta", True), (" ", True), ("a" * 1001, True), ("%", False), ("a\n", False), (" \x7f", False)):
+            head_list = pairs((":method", "GET"), (":scheme", scheme), (":path", "/"))
+            self.assertEqual(self.found_at([("head", head_list, True)]), None if right else 0, scheme)
+
     def test_trailers(self):
         head = ("head", ask_list(), False)
         for rows in (ask_list(), pairs((":x", "y")), pairs(("A", "b")), pairs(("connection", "b")), pairs(("a", "\tb"))):
